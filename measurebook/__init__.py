@@ -1,0 +1,1 @@
+"""A book of measures."""

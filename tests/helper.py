@@ -1,0 +1,58 @@
+"""Calls written as Python texts, and their answers taken apart again."""
+
+from measurebook.measures import answers
+
+NUMBERS = {"base": 0, "unit": 1, "forget": 2, "read": 3, "tell": 4, "ratio": 5, "convert": 6}
+
+
+def row(text):
+    signs = list(text.encode("latin-1")) if isinstance(text, str) else list(text)
+    return [len(signs)] + signs
+
+
+def encoded(calls):
+    """Calls are tuples: the call's name, then its whole numbers and texts."""
+    numbers = []
+    for call in calls:
+        numbers.append(NUMBERS[call[0]])
+        for argument in call[1:]:
+            numbers.extend([argument] if isinstance(argument, int) else row(argument))
+    return numbers
+
+
+def taken_apart(answered):
+    parts = []
+    place = 0
+    while place < len(answered):
+        count = answered[place]
+        parts.append(answered[place + 1:place + 1 + count])
+        if len(parts[-1]) != count:
+            raise AssertionError("the answers end too early")
+        place += 1 + count
+    return parts
+
+
+def run(*calls):
+    """One list of numbers for each call."""
+    parts = taken_apart(answers(encoded(calls)))
+    if len(parts) != len(calls):
+        raise AssertionError(f"{len(calls)} calls but {len(parts)} answers")
+    return parts
+
+
+def told(text):
+    """The answer of a call that answers 0 and a text."""
+    return [0] + list(text.encode("latin-1"))
+
+
+def after(setup, *calls):
+    """The answers to the calls that stand behind a setup in which nothing may be refused."""
+    parts = run(*setup, *calls)
+    for call, part in zip(setup, parts):
+        if part != [0]:
+            raise AssertionError(f"{call} of the setup answered {part}")
+    return parts[len(setup):]
+
+
+def one(setup, *call):
+    return after(setup, call)[0]
