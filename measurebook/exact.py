@@ -33,6 +33,23 @@ def lowest(top, bottom):
     return Exact(top // divisor, bottom // divisor)
 
 
+def quotient(a, b):
+    """a divided by b, which is above 0, in lowest terms."""
+    return lowest(a.top * b.bottom, a.bottom * b.top)
+
+
+def difference(a, b):
+    return lowest(a.top * b.bottom - b.top * a.bottom, a.bottom * b.bottom)
+
+
+def is_below(a, b):
+    return a.top * b.bottom < b.top * a.bottom
+
+
+def are_same(a, b):
+    return a.top == b.top and a.bottom == b.bottom
+
+
 def near_divisor(a, b):
     """The common divisor, or 0 if a over b in lowest terms is surely too far."""
     for turn in range(NEAR_DIVISIONS + 1):
@@ -66,3 +83,10 @@ def times_itself(number, power):
     for turn in range(power):
         product = product * number
     return product
+
+
+def to_power(fraction, power):
+    """The fraction, which is above 0, to a power of any sign."""
+    top = times_itself(fraction.top, abs(power))
+    bottom = times_itself(fraction.bottom, abs(power))
+    return Exact(top, bottom) if power >= 0 else Exact(bottom, top)

@@ -1,7 +1,7 @@
 """Fractions, factors and rounded numbers shown as lists of bytes."""
 
 from measurebook.exact import times_itself
-from measurebook.signs import BLANK, HAT, ONE, POINT, SLASH, signs_of
+from measurebook.signs import BLANK, EQUALS, HAT, ONE, POINT, SLASH, signs_of
 
 
 def shown_fraction(fraction):
@@ -36,6 +36,10 @@ def shown_quantity(number, factors):
     return shown_fraction(number) + [BLANK] + measure
 
 
+def shown_unit(name, entry):
+    return list(name) + [EQUALS] + shown_quantity(entry.number, entry.factors)
+
+
 def nearest(top, bottom):
     """The whole number nearest to top over bottom, which is not below 0; of two, the even one."""
     whole = top // bottom
@@ -45,15 +49,15 @@ def nearest(top, bottom):
     return whole
 
 
-def shown_rounded(top, bottom, places):
-    """top over bottom, rounded to that many decimal places."""
+def shown_rounded(fraction, places):
+    """The fraction, rounded to that many decimal places."""
     # Rounded without its sign: nearest and even are the same above and below 0.
-    scaled = nearest(abs(top) * times_itself(10, places), bottom)
+    scaled = nearest(abs(fraction.top) * times_itself(10, places), fraction.bottom)
     digits = str(scaled).zfill(places + 1)
     before = len(digits) - places
     written = digits[:before]
     if places > 0:
         written = written + "." + digits[before:]
-    if top < 0 and scaled > 0:
+    if fraction.top < 0 and scaled > 0:
         written = "-" + written
     return signs_of(written)

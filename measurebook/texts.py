@@ -22,6 +22,15 @@ class Quantity:
         self.factors = factors
 
 
+class Piece:
+    """A piece of a measure text: its place in the whole text, its signs, and whether a / stands right before it."""
+
+    def __init__(self, start, signs, turned):
+        self.start = start
+        self.signs = signs
+        self.turned = turned
+
+
 def is_name(text):
     if len(text) == 0 or len(text) > LONGEST_NAME:
         return False
@@ -90,46 +99,61 @@ def factor_of(piece):
     return (tuple(name), power)
 
 
+def is_factor(piece):
+    return piece == [ONE] or factor_of(piece) is not None
+
+
+def number_before(text):
+    """The number before the first blank, 1 if there is no blank, or None if it is no number text."""
+    if BLANK not in text:
+        return Exact(1, 1)
+    return number_of(text[:text.index(BLANK)])
+
+
+def measure_start(text):
+    """Where the measure text begins: behind the first blank, if there is one."""
+    return text.index(BLANK) + 1 if BLANK in text else 0
+
+
 def pieces_of(text):
-    """What stands before, between and behind the signs . and /, each with whether a / stands right before it."""
+    """The pieces of the measure text, of which each stands before, between or behind its signs . and /."""
     pieces = []
-    start = 0
+    start = measure_start(text)
     turned = False
-    for place, sign in enumerate(text):
+    for place in range(start, len(text)):
+        sign = text[place]
         if sign == POINT or sign == SLASH:
-            pieces.append((turned, text[start:place]))
+            pieces.append(Piece(start, text[start:place], turned))
             start = place + 1
             turned = sign == SLASH
-    pieces.append((turned, text[start:]))
+    pieces.append(Piece(start, text[start:], turned))
     return pieces
 
 
-def factors_of(text):
-    """The factors of a measure text, or None if it is no measure text."""
-    pieces = pieces_of(text)
-    if len(pieces) > MOST_FACTORS:
-        return None
-    factors = []
-    for turned, piece in pieces:
-        if piece != [ONE]:
-            factor = factor_of(piece)
-            if factor is None:
-                return None
-            factors.append((factor[0], -factor[1]) if turned else factor)
-    return factors
+def first_wrong(pieces):
+    """The first piece that is no factor or is one too many, or None."""
+    for before, piece in enumerate(pieces):
+        if before >= MOST_FACTORS or not is_factor(piece.signs):
+            return piece
+    return None
+
+
+def turned_factor(piece):
+    factor = factor_of(piece.signs)
+    return (factor[0], -factor[1]) if piece.turned else factor
+
+
+def factors_of(pieces):
+    """The factors of pieces of which none is wrong."""
+    return [turned_factor(piece) for piece in pieces if piece.signs != [ONE]]
 
 
 def quantity_of(text):
     """What a quantity text says, or None if it is no quantity text."""
     if len(text) > LONGEST_QUANTITY:
         return None
-    number = Exact(1, 1)
-    measure = text
-    if BLANK in text:
-        place = text.index(BLANK)
-        number = number_of(text[:place])
-        measure = text[place + 1:]
-    factors = factors_of(measure)
-    if number is None or factors is None:
+    number = number_before(text)
+    pieces = pieces_of(text)
+    if number is None or first_wrong(pieces) is not None:
         return None
-    return Quantity(number, factors)
+    return Quantity(number, factors_of(pieces))

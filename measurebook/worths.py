@@ -1,7 +1,7 @@
-"""The worth of a quantity in a book."""
+"""Worths: of a quantity in a book, of an entry, and made of other worths."""
 
 from measurebook.book import bases_of
-from measurebook.exact import near_lowest, times_itself
+from measurebook.exact import are_same, near_lowest, quotient, to_power
 
 MOST_POWER = 99
 
@@ -27,11 +27,9 @@ def ratio_of(book, quantity):
     top = quantity.number.top
     bottom = quantity.number.bottom
     for name, power in quantity.factors:
-        ratio = book.entries[name].ratio
-        above = times_itself(ratio.top, abs(power))
-        below = times_itself(ratio.bottom, abs(power))
-        top = top * (above if power > 0 else below)
-        bottom = bottom * (below if power > 0 else above)
+        ratio = to_power(book.entries[name].ratio, power)
+        top = top * ratio.top
+        bottom = bottom * ratio.bottom
     return near_lowest(top, bottom)
 
 
@@ -44,5 +42,28 @@ def worth_of(book, quantity):
     return None if ratio is None else Worth(ratio, powers)
 
 
+def entry_worth(book, name):
+    return Worth(book.entries[name].ratio, powers_of(book, [(name, 1)]))
+
+
 def are_alike(a, b):
     return a.powers == b.powers
+
+
+def are_equal(a, b):
+    return are_alike(a, b) and are_same(a.ratio, b.ratio)
+
+
+def raised(worth, power):
+    """The worth to that power, however far it is."""
+    return Worth(to_power(worth.ratio, power), [power * each for each in worth.powers])
+
+
+def without(worth, part):
+    """The worth that times the part is the whole worth."""
+    powers = [whole - taken for whole, taken in zip(worth.powers, part.powers)]
+    return Worth(quotient(worth.ratio, part.ratio), powers)
+
+
+def is_plain_one(worth):
+    return worth.ratio.top == 1 and worth.ratio.bottom == 1 and not any(worth.powers)

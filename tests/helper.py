@@ -2,7 +2,8 @@
 
 from measurebook.measures import answers
 
-NUMBERS = {"base": 0, "unit": 1, "forget": 2, "read": 3, "tell": 4, "ratio": 5, "convert": 6}
+NUMBERS = {"base": 0, "unit": 1, "forget": 2, "read": 3, "tell": 4, "ratio": 5, "convert": 6, "root": 7, "named": 8,
+           "kin": 9, "short": 10, "split": 11, "fault": 12, "entry": 13}
 
 
 def row(text):
@@ -10,13 +11,24 @@ def row(text):
     return [len(signs)] + signs
 
 
+def rows(texts):
+    """Each text behind how many bytes it has."""
+    return [number for text in texts for number in row(text)]
+
+
+def argument_numbers(argument):
+    if isinstance(argument, int):
+        return [argument]
+    return row(rows(argument)) if isinstance(argument, tuple) else row(argument)
+
+
 def encoded(calls):
-    """Calls are tuples: the call's name, then its whole numbers and texts."""
+    """Calls are tuples: the call's name, then its whole numbers, its texts, and for a list of texts a tuple of these."""
     numbers = []
     for call in calls:
         numbers.append(NUMBERS[call[0]])
         for argument in call[1:]:
-            numbers.extend([argument] if isinstance(argument, int) else row(argument))
+            numbers.extend(argument_numbers(argument))
     return numbers
 
 
@@ -43,6 +55,16 @@ def run(*calls):
 def told(text):
     """The answer of a call that answers 0 and a text."""
     return [0] + list(text.encode("latin-1"))
+
+
+def told_unit(text):
+    """The answer of entry for a unit."""
+    return [1] + list(text.encode("latin-1"))
+
+
+def told_names(*names):
+    """The answer of kin."""
+    return [len(names)] + rows(names)
 
 
 def after(setup, *calls):

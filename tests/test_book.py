@@ -137,6 +137,7 @@ class AfterARefusal(unittest.TestCase):
     def probes(self, setup):
         names = [call[1] for call in setup]
         told_all = [("tell", name) for name in names] + [("read", name) for name in names]
+        told_all += [("entry", i) for i in range(len(names) + 1)] + [("kin", name) for name in names[:5]]
         room = [("base", "p" + str(i)) for i in range(9)] + [("unit", "q" + str(i), "2 1") for i in range(41)]
         forgotten = [("forget", name) for name in names] + [("forget", name) for name in reversed(names)]
         return told_all + forgotten + room + told_all
@@ -157,7 +158,14 @@ class AfterARefusal(unittest.TestCase):
             (("read", "3"), -4), (("read", "x"), -5), (("read", "-3 m"), -6), (("read", "km^99"), -7),
             (("tell", "3"), -4), (("tell", "x"), -5), (("tell", "-3 m"), -6), (("tell", "km^99"), -7),
             (("ratio", "m", "3"), -4), (("ratio", "x", "m"), -5), (("ratio", "m", "s"), -10),
-            (("convert", 21, "m", "m"), -13), (("convert", 2, "m", "0 m"), -6), (("convert", 2, "m", "s"), -10)])
+            (("convert", 21, "m", "m"), -13), (("convert", 2, "m", "0 m"), -6), (("convert", 2, "m", "s"), -10),
+            (("root", 1, "m"), -13), (("root", 2, "3"), -4), (("root", 2, "x"), -5), (("root", 2, "0 m"), -6),
+            (("root", 2, "km^99"), -7), (("root", 2, "km"), -11),
+            (("named", "3"), -4), (("named", "x"), -5), (("named", "0 m"), -6), (("named", "km^99"), -7), (("named", "2 m"), -12),
+            (("kin", "3"), -4), (("kin", "x"), -5), (("kin", "0 m"), -6), (("kin", "km^99"), -7),
+            (("short", "3"), -4), (("short", "x"), -5), (("short", "0 m"), -6), (("short", "km^99"), -7), (("short", "7 m"), -12),
+            (("split", "m", ()), -13), (("split", "x", ("m",)), -5), (("split", "m", ("0 m",)), -6), (("split", "m", ("s",)), -10),
+            (("split", "m", ("m", "km")), -14), (("entry", -1), -8), (("entry", 5), -8)])
 
     def test_in_a_full_book(self):
         self.check(FORTY, [(("base", "x"), -3), (("unit", "x", "b0"), -3)])
@@ -165,7 +173,9 @@ class AfterARefusal(unittest.TestCase):
 
     def test_calls_that_only_ask(self):
         undisturbed = after(BOOK, *self.probes(BOOK))
-        for call in (("read", "2 v"), ("tell", "2 v.s^3"), ("ratio", "v", "2 m/s"), ("convert", 3, "-2 v", "m/s")):
+        for call in (("read", "2 v"), ("tell", "2 v.s^3"), ("ratio", "v", "2 m/s"), ("convert", 3, "-2 v", "m/s"), ("root", 2, "4 km^2"),
+                     ("named", "km/h"), ("kin", "5 m"), ("kin", "m^5"), ("short", "v^2"), ("short", "m.s"), ("split", "h", ("7 s", "s")),
+                     ("fault", "v"), ("fault", "v/"), ("fault", "0 v"), ("fault", "x"), ("fault", "km^99"), ("entry", 0), ("entry", 4)):
             self.assertEqual(after(BOOK, call, *self.probes(BOOK))[1:], undisturbed, call)
 
 
