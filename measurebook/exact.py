@@ -85,6 +85,15 @@ def times_itself(number, power):
     return product
 
 
+def product_of(numbers):
+    # Taken in pairs: two great numbers of like size are multiplied far faster than a great one and many small ones.
+    left = [1] + numbers
+    while len(left) > 1:
+        pairs = len(left) // 2
+        left = [left[2 * i] * left[2 * i + 1] for i in range(pairs)] + left[2 * pairs:]
+    return left[0]
+
+
 def to_power(fraction, power):
     """The fraction, which is above 0, to a power of any sign."""
     top = times_itself(fraction.top, abs(power))

@@ -1,7 +1,7 @@
 """Worths: of a quantity in a book, of an entry, and made of other worths."""
 
 from measurebook.book import bases_of
-from measurebook.exact import are_same, near_lowest, quotient, to_power
+from measurebook.exact import are_same, near_lowest, product_of, quotient, to_power
 
 MOST_POWER = 99
 
@@ -24,12 +24,9 @@ def powers_of(book, factors):
 
 def ratio_of(book, quantity):
     """The ratio of the quantity, or None if it is too far."""
-    top = quantity.number.top
-    bottom = quantity.number.bottom
-    for name, power in quantity.factors:
-        ratio = to_power(book.entries[name].ratio, power)
-        top = top * ratio.top
-        bottom = bottom * ratio.bottom
+    ratios = [to_power(book.entries[name].ratio, power) for name, power in quantity.factors]
+    top = quantity.number.top * product_of([ratio.top for ratio in ratios])
+    bottom = quantity.number.bottom * product_of([ratio.bottom for ratio in ratios])
     return near_lowest(top, bottom)
 
 
